@@ -1,0 +1,1 @@
+"""Nearnought: rows of amounts that stay near nothing all along."""

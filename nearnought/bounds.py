@@ -1,0 +1,14 @@
+"""The bounds of what the package works on."""
+
+MAX_KINDS = 4
+MAX_ROWS = 24
+MAX_AMOUNT = 10 ** 6
+MAX_SMALL = 8
+MAX_LINES = 6
+MAX_COLUMNS = 16
+MAX_JOBS = 12
+MAX_MACHINES = 4
+MAX_FEW = 7
+MAX_EDITS = 30
+BATCH = 12
+HISTORY = 10
