@@ -3,12 +3,15 @@
 from nearnought.bounds import MAX_AMOUNT, MAX_KINDS, MAX_ROWS
 
 
+def is_integer(value):
+    """Whether value is an integer."""
+    # For Python, True and False are ints; here they stand for no number.
+    return isinstance(value, int) and not isinstance(value, bool)
+
+
 def is_within(value, low, high):
     """Whether value is an integer from low to high."""
-    # For Python, True and False are ints; here they stand for no number.
-    if not isinstance(value, int) or isinstance(value, bool):
-        return False
-    return low <= value <= high
+    return is_integer(value) and low <= value <= high
 
 
 def is_row(value, kinds):
