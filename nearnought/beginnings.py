@@ -33,6 +33,11 @@ def sums(kinds, rows):
     return tuple(found)
 
 
+def weighed(kinds, rows, numbers):
+    """What the rows come to, each times its number."""
+    return sums(kinds, [multiplied(row, number) for row, number in zip(rows, numbers)])[-1]
+
+
 def is_even(load):
     """Whether the rows come to a nought."""
     kinds, rows = load

@@ -1,6 +1,6 @@
 """Orders that stay near a nought, with the weights that show it."""
 
-from nearnought.beginnings import must_be_even
+from nearnought.beginnings import must_be_even, weighed
 from nearnought.forms import is_order
 from nearnought.ratios import fraction, is_fraction, on_one_bottom, settled
 
@@ -15,10 +15,7 @@ def is_weights(load, some, value):
     tops, bottom = on_one_bottom(value)
     if sum(tops) != (len(some) - kinds) * bottom:
         return False
-    for kind in range(kinds):
-        if sum([top * rows[index][kind] for top, index in zip(tops, some)]) != 0:
-            return False
-    return True
+    return weighed(kinds, [rows[index] for index in some], tops) == (0,) * kinds
 
 
 def narrowing(load, some, weights):

@@ -7,6 +7,10 @@ E = (2, ((3, 0), (-1, 2), (-2, -2)))
 F = (1, ((2,), (2,), (2,), (-3,), (-3,)))
 MOST = 10 ** 6
 SECONDS = 5
+UNEVEN = [
+    (1, ((1,),)), (4, ((0, 0, 0, 1),)), (2, ((1, -1), (-1, 0))), (1, ((MOST,),) * 24), (2, ((0, 1),) * 9),
+    (3, ((1, 2, 3), (-1, -2, -3), (0, 0, -1))), (1, ((1,), (-1,)) * 11 + ((2,), (-1,))),
+]
 
 
 def load(rng, kinds, many, most):
@@ -59,6 +63,24 @@ def even_loads(seed, most_rows=24):
             nought = ((0,) * kinds,) * (many - 2 * half)
             found.append((kinds, (full,) * half + nought + (less,) * half))
     return found
+
+
+def orders(rng, many, drawn=2):
+    """Orders of so many rows: as they stand, turned about, and drawn."""
+    found = [tuple(range(many)), tuple(reversed(range(many)))]
+    for _ in range(drawn):
+        found.append(tuple(rng.sample(range(many), many)))
+    return found
+
+
+def high_order(load):
+    """An order of the load that has the rows with a great first amount ahead."""
+    return tuple(sorted(range(len(load[1])), key=lambda index: -load[1][index][0]))
+
+
+def changed(items, place, item):
+    """The tuple with another item at the place."""
+    return items[:place] + (item,) + items[place + 1:]
 
 
 def shown(load):

@@ -4,7 +4,7 @@ import random
 import unittest
 
 import drawn
-from drawn import E, F, MOST
+from drawn import E, F, MOST, orders
 from nearnought import beginnings
 from nearnought.beginnings import begins, height, is_even, sign_begins, sign_height, size
 
@@ -33,14 +33,6 @@ def own_begins(load, places, factors):
 
 def own_height(totals):
     return max(max(abs(item) for item in total) for total in totals)
-
-
-def orders(rng, many):
-    """Orders of so many rows: as they stand, turned about, and drawn."""
-    found = [tuple(range(many)), tuple(reversed(range(many)))]
-    for _ in range(2):
-        found.append(tuple(rng.sample(range(many), many)))
-    return found
 
 
 def some_signs(rng, many):

@@ -6,7 +6,7 @@ import unittest
 from fractions import Fraction
 
 import drawn
-from drawn import E, F, MOST
+from drawn import E, F, MOST, changed
 from nearnought import chains
 from nearnought.beginnings import height, size
 from nearnought.chains import chain, chain_holds, narrowed, steady_order
@@ -61,10 +61,6 @@ def same(many, kinds):
     """The same weight for each of so many rows."""
     weight = Fraction(many - kinds, many)
     return ((weight.numerator, weight.denominator),) * many
-
-
-def changed(items, place, item):
-    return items[:place] + (item,) + items[place + 1:]
 
 
 class Chains(unittest.TestCase):
