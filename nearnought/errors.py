@@ -4,6 +4,10 @@
 class AmountError(ValueError):
     """What all errors of the package are."""
 
+    def name(self):
+        """The name of the error's class."""
+        return self.__class__.__name__
+
 
 class BadBatch(AmountError):
     """The edits or deeds are not of the form that is told."""
